@@ -1,0 +1,1 @@
+"""Laidviews: pictures of one ground, laid together."""

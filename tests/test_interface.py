@@ -1,0 +1,70 @@
+"""The interface: names, arguments, and the files in which they are defined."""
+
+import importlib
+import inspect
+import unittest
+
+FUNCTIONS = {
+    "laidviews.pictures": {
+        "is_name": ["value"],
+        "is_reading": ["value"],
+        "is_view": ["value"],
+        "size": ["view"],
+        "readings": ["view"],
+        "moved_light": ["view", "light"],
+    },
+    "laidviews.album": {"is_link": ["value"], "album_of": ["text"], "show_album": ["album"]},
+}
+
+CLASSES = {
+    "laidviews.errors": {
+        "Refused": {},
+        "Malformed": {"__init__": ["self", "at"]},
+        "Unknown": {"__init__": ["self", "name"]},
+        "Clashing": {"__init__": ["self", "name"]},
+        "Oversized": {"__init__": ["self", "limit"]},
+        "Misused": {"__init__": ["self", "why"]},
+    },
+    "laidviews.album": {
+        "Album": {
+            "__init__": ["self"],
+            "add_view": ["self", "view"],
+            "add_link": ["self", "link"],
+            "remove_link": ["self", "number"],
+            "remove_view": ["self", "name"],
+            "view": ["self", "name"],
+            "index": ["self", "name"],
+            "views": ["self"],
+            "names": ["self"],
+            "links": ["self"],
+            "twin": ["self"],
+        },
+    },
+}
+
+
+def arguments_of(function):
+    return list(inspect.signature(function).parameters)
+
+
+class Interface(unittest.TestCase):
+    def test_functions(self):
+        for module, functions in FUNCTIONS.items():
+            for name, arguments in functions.items():
+                function = getattr(importlib.import_module(module), name)
+                self.assertTrue(inspect.isfunction(function), name)
+                self.assertEqual(function.__module__, module)
+                self.assertEqual(arguments_of(function), arguments, name)
+
+    def test_classes(self):
+        for module, classes in CLASSES.items():
+            for name, methods in classes.items():
+                kind = getattr(importlib.import_module(module), name)
+                self.assertTrue(inspect.isclass(kind), name)
+                self.assertEqual(kind.__module__, module)
+                for method, arguments in methods.items():
+                    self.assertEqual(arguments_of(vars(kind)[method]), arguments, (name, method))
+
+
+if __name__ == "__main__":
+    unittest.main()
