@@ -189,4 +189,4 @@ def show_album(album):
         lines.extend(_shown_view(view))
     for link in album.links():
         lines.append(_shown_link(link))
-    return "".join([f"{line}\n" for line in lines])
+    return "".join([line + "\n" for line in lines])
