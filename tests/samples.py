@@ -1,5 +1,9 @@
 """Values that several tests use."""
 
+import random
+
+from laidviews.album import Album
+
 # Values that are no name, no view and no link, and as numbers not in any range.
 JUNK = [
     True,
@@ -54,3 +58,33 @@ class Touchy:
 def names_of(count):
     """As many different names."""
     return [f"n{number}" for number in range(count)]
+
+
+def album_with(views, links):
+    """An album with these views and links."""
+    album = Album()
+    for view in views:
+        album.add_view(view)
+    for link in links:
+        album.add_link(link)
+    return album
+
+
+def linked(names, links):
+    """An album with these links between small views of these names, separated by spaces."""
+    return album_with([(name, ((1,),)) for name in names.split()], links)
+
+
+def random_link(source, names, most):
+    """A link between two of the names, whose numbers are at most so far from 0."""
+    one, two = source.sample(names, 2)
+    return (one, two, *[source.randint(-most, most) for _ in range(3)])
+
+
+def small_albums(count, seed):
+    """As many albums of at most 5 views and 7 links, some barred and some not, the same each time."""
+    source = random.Random(seed)
+    for _ in range(count):
+        names = source.sample("abcde", source.randint(2, 5))
+        links = [random_link(source, names, 1 if source.random() < 0.3 else 0) for _ in range(source.randint(0, 7))]
+        yield linked(" ".join(names), links)

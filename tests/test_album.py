@@ -5,7 +5,7 @@ import unittest
 from laidviews.album import Album, is_link
 from laidviews.errors import Clashing, Misused, Oversized, Unknown
 
-from samples import JUNK, Touchy, names_of
+from samples import JUNK, Touchy, album_with, names_of
 
 A = ("a", ((1, None), (2, 3)))
 B = ("b", ((4,),))
@@ -18,15 +18,6 @@ BC = ("b", "c", 0, 2, 0)
 AC = ("a", "c", 0, 0, 0)
 CA = ("c", "a", 9, 9, 9)
 CD = ("c", "d", 5, -5, 7)
-
-
-def album_with(views, links):
-    album = Album()
-    for view in views:
-        album.add_view(view)
-    for link in links:
-        album.add_link(link)
-    return album
 
 
 def told(album):

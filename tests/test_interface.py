@@ -14,6 +14,19 @@ FUNCTIONS = {
         "moved_light": ["view", "light"],
     },
     "laidviews.album": {"is_link": ["value"], "album_of": ["text"], "show_album": ["album"]},
+    "laidviews.laying": {
+        "groups": ["album"],
+        "lay": ["album"],
+        "lay_group": ["album", "names"],
+        "ring_sum": ["album", "ring"],
+        "keeps": ["laying", "link"],
+    },
+    "laidviews.ground": {
+        "gather": ["album", "laying", "group"],
+        "picture_of": ["view", "place"],
+        "bounds": ["ground"],
+        "values_at": ["ground", "cell"],
+    },
 }
 
 CLASSES = {
@@ -38,6 +51,17 @@ CLASSES = {
             "names": ["self"],
             "links": ["self"],
             "twin": ["self"],
+        },
+    },
+    "laidviews.edits": {
+        "Keeper": {
+            "__init__": ["self", "album"],
+            "album": ["self"],
+            "answer": ["self"],
+            "put_view": ["self", "view"],
+            "put_link": ["self", "link"],
+            "take_link": ["self", "number"],
+            "take_view": ["self", "name"],
         },
     },
 }
