@@ -1,12 +1,15 @@
 """What several files ask of values of any kind."""
 
 
+def is_whole(value):
+    """Tell whether a value is an integer."""
+    # Python counts True and False as 1 and 0; the document does not.
+    return isinstance(value, int) and not isinstance(value, bool)
+
+
 def is_within(value, least, greatest):
     """Tell whether a value is an integer from least to greatest."""
-    # Python counts True and False as 1 and 0; the document does not.
-    if not isinstance(value, int) or isinstance(value, bool):
-        return False
-    return least <= value <= greatest
+    return is_whole(value) and least <= value <= greatest
 
 
 def is_tuple_of(value, length):

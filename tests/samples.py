@@ -88,3 +88,18 @@ def small_albums(count, seed):
         names = source.sample("abcde", source.randint(2, 5))
         links = [random_link(source, names, 1 if source.random() < 0.3 else 0) for _ in range(source.randint(0, 7))]
         yield linked(" ".join(names), links)
+
+
+def ground_of(cells):
+    """A ground that tells these values, for each cell a list: the first of view a, the next of b .."""
+    return {cell: tuple(zip("abcdefghijklmnopqrstuvwxyz0123", told)) for cell, told in cells.items()}
+
+
+def random_grounds(count, seed):
+    """As many grounds of at most 3 cells with one to five told values each, the same each time."""
+    source = random.Random(seed)
+    for _ in range(count):
+        cells = sorted({(source.randint(-2, 2), source.randint(-1, 1)) for _ in range(source.randint(0, 3))})
+        greatest = source.choice([0, 1, 1, 2, 4])
+        told = [[source.randint(0, greatest) for _ in range(source.randint(1, 5))] for _ in cells]
+        yield ground_of(dict(zip(sorted(cells, key=lambda cell: (cell[1], cell[0])), told)))

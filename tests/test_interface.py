@@ -27,7 +27,34 @@ FUNCTIONS = {
         "bounds": ["ground"],
         "values_at": ["ground", "cell"],
     },
+    "laidviews.sure": {
+        "cost": ["ground", "cell", "value"],
+        "least_cost": ["ground"],
+        "best": ["ground", "cell"],
+        "other": ["ground", "cell"],
+        "sure": ["ground", "faults"],
+        "plain_ground": ["ground"],
+        "two_grounds": ["ground", "faults", "cell"],
+        "false_readings": ["ground", "values"],
+    },
+    "laidviews.shifts": {
+        "overlap": ["one", "two", "dx", "dy"],
+        "fits": ["one", "two", "reach", "errors", "least"],
+        "link_of": ["one", "two", "fit"],
+    },
+    "laidviews.flow": {
+        "check_net": ["count", "edges"],
+        "greatest_flow": ["count", "edges"],
+        "worth": ["edges", "flow"],
+        "is_flow": ["count", "edges", "flow"],
+        "side_cost": ["edges", "side"],
+        "narrow_side": ["count", "edges", "flow"],
+        "wide_side": ["count", "edges", "flow"],
+    },
 }
+
+# The arguments that are given by keyword only, of those functions that have some.
+BY_KEYWORD = {"laidviews.shifts": {"fits": ["reach", "errors", "least"]}}
 
 CLASSES = {
     "laidviews.errors": {
@@ -71,6 +98,11 @@ def arguments_of(function):
     return list(inspect.signature(function).parameters)
 
 
+def by_keyword(function):
+    parameters = inspect.signature(function).parameters.values()
+    return [parameter.name for parameter in parameters if parameter.kind is parameter.KEYWORD_ONLY]
+
+
 class Interface(unittest.TestCase):
     def test_functions(self):
         for module, functions in FUNCTIONS.items():
@@ -79,6 +111,7 @@ class Interface(unittest.TestCase):
                 self.assertTrue(inspect.isfunction(function), name)
                 self.assertEqual(function.__module__, module)
                 self.assertEqual(arguments_of(function), arguments, name)
+                self.assertEqual(by_keyword(function), BY_KEYWORD.get(module, {}).get(name, []), name)
 
     def test_classes(self):
         for module, classes in CLASSES.items():
