@@ -1,5 +1,6 @@
 """Gathered grounds: what all views of a group tell of each cell of the ground."""
 
+from laidviews.kinds import in_rows
 from laidviews.pictures import readings
 
 
@@ -17,8 +18,7 @@ def gather(album, laying, group):
         if laying[name][0] == group:
             for cell, value in picture_of(view, laying[name]).items():
                 told.setdefault(cell, []).append((name, value))
-    cells = sorted(told, key=lambda at: (at[1], at[0]))
-    return {cell: tuple(told[cell]) for cell in cells}
+    return {cell: tuple(told[cell]) for cell in in_rows(told)}
 
 
 def bounds(ground):

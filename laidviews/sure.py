@@ -1,7 +1,6 @@
 """Surely seen cells: those that have one value in every explanation of a gathered ground."""
 
 from laidviews.errors import Misused
-from laidviews.ground import values_at
 
 
 def cost(ground, cell, value):
@@ -9,30 +8,39 @@ def cost(ground, cell, value):
     return len([told for _, told in ground[cell] if told != value])
 
 
-def _cheapest(ground, cell, integers):
-    """Return the one with the least cost at a cell, and for equal costs the least one."""
-    return min(integers, key=lambda value: (cost(ground, cell, value), value))
+def _tally(ground, cell):
+    """Return the dict from the values that are told for a cell to how often they are told."""
+    tally = {}
+    for _, told in ground[cell]:
+        tally[told] = tally.get(told, 0) + 1
+    return tally
 
 
-def _least_untold(told):
-    value = 0
-    while value in told:
-        value += 1
-    return value
+def _most_told(tally):
+    """Return the value that is told most often, which costs least, and for equal costs the least one."""
+    return min(tally, key=lambda value: (-tally[value], value))
 
 
 def best(ground, cell):
     """Return the best integer of a cell."""
     # What is told nowhere at the cell costs more than any told value.
-    return _cheapest(ground, cell, values_at(ground, cell))
+    return _most_told(_tally(ground, cell))
+
+
+def _least_untold(tally):
+    value = 0
+    while value in tally:
+        value += 1
+    return value
 
 
 def other(ground, cell):
     """Return the best integer of a cell other than the best one."""
-    told = values_at(ground, cell)
-    first = best(ground, cell)
+    tally = _tally(ground, cell)
     # Of all integers that are not told the document takes the least one from 0 on.
-    return _cheapest(ground, cell, [value for value in told if value != first] + [_least_untold(told)])
+    tally[_least_untold(tally)] = 0
+    del tally[best(ground, cell)]
+    return _most_told(tally)
 
 
 def _added_cost(ground, cell):
@@ -42,7 +50,12 @@ def _added_cost(ground, cell):
 
 def least_cost(ground):
     """Return the least cost of the ground: the sum of the least costs of its cells."""
-    return sum([cost(ground, cell, best(ground, cell)) for cell in ground])
+    return sum([len(ground[cell]) - max(_tally(ground, cell).values()) for cell in ground])
+
+
+def is_sure(ground, faults, cell):
+    """Tell whether a cell of the ground is surely seen."""
+    return 0 <= faults - least_cost(ground) < _added_cost(ground, cell)
 
 
 def sure(ground, faults):
@@ -50,7 +63,7 @@ def sure(ground, faults):
     spare = faults - least_cost(ground)
     if spare < 0:
         return None
-    return {cell: best(ground, cell) for cell in ground if _added_cost(ground, cell) > spare}
+    return {cell: best(ground, cell) for cell in ground if spare < _added_cost(ground, cell)}
 
 
 def plain_ground(ground):
@@ -60,10 +73,9 @@ def plain_ground(ground):
 
 def two_grounds(ground, faults, cell):
     """Return two explanations that differ at a cell that is not surely seen."""
-    spare = faults - least_cost(ground)
-    if spare < 0:
+    if least_cost(ground) > faults:
         raise Misused("none")
-    if _added_cost(ground, cell) > spare:
+    if is_sure(ground, faults, cell):
         raise Misused("sure")
     second = plain_ground(ground)
     second[cell] = other(ground, cell)

@@ -103,3 +103,54 @@ def random_grounds(count, seed):
         greatest = source.choice([0, 1, 1, 2, 4])
         told = [[source.randint(0, greatest) for _ in range(source.randint(1, 5))] for _ in cells]
         yield ground_of(dict(zip(sorted(cells, key=lambda cell: (cell[1], cell[0])), told)))
+
+
+def picture(text, left=0, top=0):
+    """A picture whose rows are the lines of a text, numbers and dots for holes; its first cell is at (left, top)."""
+    rows = [line.split() for line in text.strip().split("\n")]
+    return {
+        (left + x, top + y): int(word) for y, row in enumerate(rows) for x, word in enumerate(row) if word != "."
+    }
+
+
+def random_picture(source, width, height, values):
+    """A picture of some cells of a field of this size, in any order."""
+    cells = [(x, y) for x in range(width) for y in range(height) if source.random() < 0.75]
+    return {cell: source.choice(values) for cell in source.sample(cells, len(cells))}
+
+
+def picture_pairs(count, seed):
+    """As many pairs of small pictures, apart or with at most 8 cells in common, the same each time."""
+    source = random.Random(seed)
+    found = 0
+    while found < count:
+        values = source.choice([[0, 1], [0, 1, 2], [-5, 0, 7, 9], range(-9, 10), [4]])
+        base = random_picture(source, source.choice([0, 2, 3, 4, 4]), source.randint(2, 4), values)
+        dx, dy = source.choice([-3, -1, 0, 0, 1, 2]), source.choice([-2, -1, 0, 0, 1, 3])
+        over = random_picture(source, source.choice([0, 2, 3, 4, 4]), source.randint(2, 4), values)
+        over = {(x + dx, y + dy): value for (x, y), value in over.items()}
+        # Most pairs have several cells in common, as those without are all alike.
+        fewest = 3 if found % 4 else 0
+        if fewest <= len(base.keys() & over.keys()) <= 8:
+            found += 1
+            yield base, over
+
+
+def random_bound(source, base, over):
+    """Some cells of the overlap, bound, or ()."""
+    cells = sorted(base.keys() & over.keys())
+    chosen = source.sample(cells, source.randint(0, min(3, len(cells))))
+    return {cell: source.randint(0, 1) for cell in chosen} or source.choice([(), {}])
+
+
+def random_layers(count, seed):
+    """As many lists of at most 4 small pictures with names, the same each time."""
+    source = random.Random(seed)
+    for _ in range(count):
+        values = source.choice([[0, 1], [0, 1, 2], [-5, 0, 7, 9], [4]])
+        layers = []
+        for name in source.sample(["a", "b", "c9", "zoo"], source.randint(0, 4)):
+            field = random_picture(source, source.randint(1, 3), source.randint(1, 3), values)
+            left, top = source.randint(-1, 2), source.randint(-1, 1)
+            layers.append((name, {(x + left, y + top): value for (x, y), value in field.items()}))
+        yield layers

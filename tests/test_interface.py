@@ -51,10 +51,40 @@ FUNCTIONS = {
         "narrow_side": ["count", "edges", "flow"],
         "wide_side": ["count", "edges", "flow"],
     },
+    "laidviews.seam": {
+        "overlap": ["base", "over"],
+        "difference": ["base", "over", "cell"],
+        "neighbours": ["base", "over"],
+        "cost": ["base", "over", "choice"],
+        "net_of": ["base", "over", "bound"],
+        "narrow_seam": ["base", "over", "bound"],
+        "wide_seam": ["base", "over", "bound"],
+        "seam_paper": ["base", "over", "bound", "choice"],
+        "shown": ["base", "over", "choice"],
+    },
+    "laidviews.quilt": {
+        "quilt": ["layers"],
+        "values": ["lying"],
+        "shares": ["lying"],
+        "quilt_rows": ["lying"],
+    },
+    "laidviews.judge": {
+        "judges": ["album", "value"],
+        "judges_cell": ["ground", "faults", "value"],
+        "cell_paper": ["ground", "faults", "cell"],
+    },
+    "laidviews.seam_judge": {
+        "accepts_seam": ["base", "over", "bound", "value"],
+        "bad_seam": ["base", "over", "bound", "value"],
+        "accepts_quilt": ["layers", "steps"],
+    },
 }
 
 # The arguments that are given by keyword only, of those functions that have some.
 BY_KEYWORD = {"laidviews.shifts": {"fits": ["reach", "errors", "least"]}}
+
+# The arguments that may be left out, with what then stands for them.
+LEFT_OUT = {"laidviews.seam": {"narrow_seam": {"bound": ()}, "wide_seam": {"bound": ()}}}
 
 CLASSES = {
     "laidviews.errors": {
@@ -103,6 +133,11 @@ def by_keyword(function):
     return [parameter.name for parameter in parameters if parameter.kind is parameter.KEYWORD_ONLY]
 
 
+def left_out(function):
+    parameters = inspect.signature(function).parameters.values()
+    return {parameter.name: parameter.default for parameter in parameters if parameter.default is not parameter.empty}
+
+
 class Interface(unittest.TestCase):
     def test_functions(self):
         for module, functions in FUNCTIONS.items():
@@ -112,6 +147,7 @@ class Interface(unittest.TestCase):
                 self.assertEqual(function.__module__, module)
                 self.assertEqual(arguments_of(function), arguments, name)
                 self.assertEqual(by_keyword(function), BY_KEYWORD.get(module, {}).get(name, []), name)
+                self.assertEqual(left_out(function), LEFT_OUT.get(module, {}).get(name, {}), name)
 
     def test_classes(self):
         for module, classes in CLASSES.items():

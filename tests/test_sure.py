@@ -10,10 +10,8 @@ from laidviews.ground import gather
 from laidviews.laying import lay
 from laidviews.sure import best, cost, false_readings, least_cost, other, plain_ground, sure, two_grounds
 
+from plain import plainly_sure, wrongs
 from samples import album_with, ground_of, random_grounds
-
-# Told nowhere in the grounds of these tests: two of them, so that all may be other than a told value.
-UNTOLD = (-1000, 1000)
 
 # Cells with one to five told values, some of them several times, and for each the best and the other one.
 CELLS = [
@@ -44,33 +42,6 @@ CELLS = [
     ([0, 0, 0, 0, 0], 0, 1),
     ([3, 1, 1, 1, 2], 1, 2),
 ]
-
-
-def wrongs(ground, values):
-    """How many told values differ, counted plainly."""
-    total = 0
-    for cell in ground:
-        for _, told in ground[cell]:
-            total += int(told != values[cell])
-    return total
-
-
-def explanations(ground, faults):
-    """All explanations, tried one by one, that use told values and two others."""
-    cells = list(ground)
-    choices = [sorted({told for _, told in ground[cell]}) + list(UNTOLD) for cell in cells]
-    for integers in itertools.product(*choices):
-        values = dict(zip(cells, integers))
-        if wrongs(ground, values) <= faults:
-            yield values
-
-
-def plainly_sure(ground, faults):
-    """The surely seen cells, from all explanations."""
-    found = list(explanations(ground, faults))
-    if not found:
-        return None
-    return {cell: found[0][cell] for cell in ground if len({values[cell] for values in found}) == 1}
 
 
 class SureCase(unittest.TestCase):
